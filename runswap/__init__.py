@@ -1,0 +1,1 @@
+"""Runswap: rows of numbers whose runs are turned."""

@@ -1,0 +1,119 @@
+"""Rows for the tests, and rounds counted without the package."""
+
+from itertools import groupby
+
+
+def rows_with_sum(total):
+    """All rows with this sum."""
+    if total == 0:
+        return [()]
+    return [(first,) + rest
+            for first in range(1, total + 1)
+            for rest in rows_with_sum(total - first)]
+
+
+def rows_up_to(total):
+    """All rows with at most this sum."""
+    return [row for part in range(1, total + 1) for row in rows_with_sum(part)]
+
+
+def filled_row(entries, total):
+    """As many of the entries, over and over, as fit, and one entry for what is left."""
+    row = []
+    left = total
+    place = 0
+    while entries[place % len(entries)] <= left:
+        row.append(entries[place % len(entries)])
+        left -= row[-1]
+        place += 1
+    if left:
+        row.append(left)
+    return tuple(row)
+
+
+def slow_row(root):
+    """A row with the sum root ** 2 in which the joined runs let the next ones join, round by round."""
+    entries = []
+    for number in range(root, 2, -1):
+        entries.extend([number] + [1] * (number - 1))
+    return tuple(entries + [2, 2])
+
+
+def great_rows():
+    """Rows with sums from 190 to 200 of many shapes."""
+    stairs = tuple(range(1, 20))
+    rows = [(200,), (1,) * 200, (199, 1), (1, 199), (100, 100), (99, 101), (2,) * 100,
+            stairs, stairs[::-1], stairs + (10,), stairs + (1,) * 10, (1, 2) * 66 + (1,),
+            (1, 1, 2) * 50, (14,) * 14, (3,) * 65 + (5,), (1, 1, 2, 1, 1, 3, 3) * 16]
+    shapes = [(1, 2, 3), (5, 4, 3, 2, 1), (1, 1, 2, 2, 3, 3), (1, 2, 2, 3, 3, 3),
+              (7, 1, 1, 7, 1), (2, 1, 2, 3), (1, 1, 1, 2, 3, 2), (4, 4, 1, 2, 1)]
+    for total in (190, 197, 199, 200):
+        rows = rows + [filled_row(shape, total) for shape in shapes]
+    slow = [slow_row(14), slow_row(14)[::-1], slow_row(14) + (4,), (1,) + slow_row(14), (13,) * 2 + slow_row(13),
+            slow_row(13) + (31,), slow_row(10) * 2, slow_row(14)[1:] + (14,)]
+    return rows + slow
+
+
+def plain_runs(row):
+    """The runs of a row."""
+    return [(number, len(list(group))) for number, group in groupby(row)]
+
+
+def plain_round(row):
+    """The row after one round, entry by entry."""
+    entries = []
+    for number, group in groupby(row):
+        length = len(list(group))
+        for _ in range(number):
+            entries.append(length)
+    return tuple(entries)
+
+
+def plain_rows(row, count):
+    """The rows after 0, 1 and so on rounds, so many in all."""
+    rows = [row]
+    while len(rows) < count:
+        rows.append(plain_round(rows[-1]))
+    return rows
+
+
+def plain_way(row):
+    """The rows up to the first one that comes again, judged by playing on alone."""
+    way = [row]
+    # A row that comes again does so after two rounds ([2] (b)).
+    while plain_round(plain_round(way[-1])) != way[-1]:
+        way.append(plain_round(way[-1]))
+    return way
+
+
+def nested(depth):
+    """A tuple nested so many levels deep."""
+    value = (1,)
+    for _ in range(depth - 1):
+        value = (value,)
+    return value
+
+
+NO_KIND = [None, True, False, 0, 3, -1, 10 ** 5000, "", "1 2", "12", "3*2", b"\x01\x02",
+           {}, {1: 1}, {1, 2}, frozenset({1}), range(1, 3), object(), int, len, ValueError("x")]
+
+NO_ROWS = NO_KIND + [
+    (), [], [1], [1, 2, 3, 3], [(1, 1), (2, 1)], (0,), (1, 0), (0, 1), (1, 0, 1), (-1,), (-1, 5), (5, -1),
+    (True,), (1, True), (True, 1), (False,), ("1",), (1, "2"), ("", 1), (b"1",), (None,), (1, None),
+    ((1,),), ([1],), (1, (2,)), (1, [2]), ((1, 1), (2, 1)), (len,), (201,), (200, 1), (1, 200),
+    (100, 101), (1,) * 201, (2,) * 101, (1,) * 100000, (10 ** 30,), (10 ** 5000,), (1, 10 ** 5000),
+    (10 ** 64, -10 ** 64), (300, -200), (-10 ** 5000,), nested(20)]
+
+NO_RUNS = NO_KIND + [
+    (), [], (1, 2), ((1, 1),), ((1, 1), (2, 1)), [1], [1, 2], [None], ["12"], [b"12"], [[]], [()],
+    [[1, 1]], [(1, 1), [2, 1]], [[1, 1], (2, 1)], [(1,)], [(1, 1, 1)], [(1, 1), (2,)],
+    [(1, 1), (2, 1, 1)], [(1, 1), None], [{1: 1, 2: 2}], [{1, 2}],
+    [(0, 1)], [(1, 0)], [(0, 0)], [(2, 1), (0, 5)], [(2, 1), (1, 0)], [(-1, 1)], [(1, -1)], [(-1, -5)],
+    [(True, 1)], [(1, True)], [(False, 1)], [("1", 1)], [(1, "1")], [(None, 1)], [(1, None)],
+    [((1,), 1)], [(1, [1])], [(1, 1), (1, 1)], [(3, 1), (3, 1)], [(1, 1), (1, 2)],
+    [(2, 1), (1, 1), (1, 1)], [(2, 2), (1, 2), (2, 3), (2, 1)], [(201, 1)], [(1, 201)], [(3, 67)],
+    [(100, 2), (1, 1)], [(10, 20), (1, 1)], [(1, 1), (10, 20)], [(200, 1), (1, 1)], [(1, 10 ** 5000)],
+    [(10 ** 5000, 1)], [(1, 1), (2, 1)] * 67, [(1, 1)] * 300, [nested(20)]]
+
+NO_ROUNDS = [None, True, False, -1, -10 ** 30, 10 ** 30 + 1, 10 ** 64 - 1, 10 ** 5000, -10 ** 5000,
+             "", "1", b"1", (), (1,), [], [1], {}, {1: 1}, {1}, object(), int, len]

@@ -1,0 +1,105 @@
+"""The examples of the document, as written, and the table of point [9]."""
+
+import doctest
+import unittest
+
+from runswap.rows import row_after, rows_from, runs_of
+
+ROWS = [
+    """
+    >>> from runswap.rows import is_row, is_runs
+    >>> [is_row((1, 2, 3, 3)), is_row((0, 1)), is_row((201,)), is_runs([(1, 1), (3, 2)]), is_runs([(3, 1), (3, 1)])]
+    [True, False, False, True, False]
+    """,
+    """
+    >>> from runswap.rows import row_of, runs_of
+    >>> row = (1, 2, 3, 3)
+    >>> [runs_of(row), row_of([(2, 3), (1, 5)])]
+    [[(1, 1), (2, 1), (3, 2)], (2, 2, 2, 1, 1, 1, 1, 1)]
+    """,
+    """
+    >>> from runswap.rows import swapped
+    >>> row = (1, 2, 3, 3)
+    >>> [swapped(row), swapped((3, 3, 5))]
+    [(1, 1, 1, 2, 2, 2), (2, 2, 2, 1, 1, 1, 1, 1)]
+    """,
+    """
+    >>> from runswap.rows import row_after
+    >>> row = (1, 2, 3, 3)
+    >>> [row_after(row), row_after(row, rounds=10 ** 30), row_after((3, 3, 5), rounds=10 ** 30)]
+    [(1, 1, 1, 2, 2, 2), (3, 3, 3), (3, 3, 5)]
+    """,
+    """
+    >>> from runswap.rows import rows_from
+    >>> [row for turn, row in zip(range(4), rows_from((3, 3)))]
+    [(3, 3), (2, 2, 2), (3, 3), (2, 2, 2)]
+    """,
+]
+
+SETTLING = [
+    """
+    >>> from runswap.settling import is_settled, is_still
+    >>> row = (1, 2, 3, 3)
+    >>> [is_settled(row), is_settled((3, 3, 5)), is_still((3, 3, 5)), is_still((3, 3, 3))]
+    [False, True, False, True]
+    """,
+    """
+    >>> from runswap.settling import rounds_needed
+    >>> row = (1, 2, 3, 3)
+    >>> [rounds_needed(row), rounds_needed((1, 2)), rounds_needed((3, 3, 5))]
+    [2, 1, 0]
+    """,
+    """
+    >>> from runswap.settling import settled_pair
+    >>> row = (1, 2, 3, 3)
+    >>> [settled_pair(row), settled_pair((1, 2))]
+    [((3, 3, 3), (3, 3, 3)), ((1, 1, 1), (3,))]
+    """,
+    """
+    >>> from runswap.settling import run_counts
+    >>> row = (1, 2, 3, 3)
+    >>> [run_counts(row), run_counts((3, 3, 5))]
+    [[3, 2, 1], [2]]
+    """,
+    """
+    >>> from runswap.settling import meeting
+    >>> [meeting((1, 2), (2, 1)), meeting((1, 2), (1, 2)), meeting((3,), (1, 1, 1)), meeting((1, 2), (1, 3))]
+    [1, 0, None, None]
+    """,
+]
+
+# Point [9]: rounds, row, runs.
+TABLE = [
+    (0, (1, 2, 3, 3), [(1, 1), (2, 1), (3, 2)]),
+    (1, (1, 1, 1, 2, 2, 2), [(1, 3), (2, 3)]),
+    (2, (3, 3, 3), [(3, 3)]),
+    (3, (3, 3, 3), [(3, 3)]),
+]
+
+
+class ExamplesTest(unittest.TestCase):
+    def check(self, examples):
+        for example in examples:
+            test = doctest.DocTestParser().get_doctest(example, {}, "example", None, None)
+            told = []
+            result = doctest.DocTestRunner().run(test, out=told.append)
+            self.assertGreater(result.attempted, 1)
+            self.assertEqual(result.failed, 0, "".join(told))
+
+    def test_rows(self):
+        self.check(ROWS)
+
+    def test_settling(self):
+        self.check(SETTLING)
+
+    def test_table(self):
+        from_start = rows_from((1, 2, 3, 3))
+        for rounds, row, runs in TABLE:
+            with self.subTest(rounds=rounds):
+                self.assertEqual(row_after((1, 2, 3, 3), rounds=rounds), row)
+                self.assertEqual(next(from_start), row)
+                self.assertEqual(runs_of(row), runs)
+
+
+if __name__ == "__main__":
+    unittest.main()
