@@ -1,35 +1,49 @@
 """Rows, their runs, and rounds."""
 
-from runswap.checks import check_rounds, is_within
+from runswap.checks import MOST_SUM, check_rounds, is_integer
 from runswap.errors import InvalidRow, InvalidRuns
-from runswap.turning import merged, runs_after, spread, turned
-
-MOST_SUM = 200
+from runswap.turning import grouped, lengths_differ, runs_after, spread, turned
 
 
 def is_row(value):
     """Tell whether any value is a row."""
     if not isinstance(value, tuple) or not 1 <= len(value) <= MOST_SUM:
         return False
-    return all([is_within(entry, 1, MOST_SUM) for entry in value]) and sum(value) <= MOST_SUM
+    # Each entry behind the next one counts 1 at least, so the next one can be no greater than this.
+    most = MOST_SUM + 1 - len(value)
+    for entry in value:
+        # Rows are checked at each call: nearly all entries pass the first, quick question.
+        if type(entry) is not int and not is_integer(entry):
+            return False
+        if entry != 1:
+            if not 1 < entry <= most:
+                return False
+            most -= entry - 1
+    return True
 
 
 def is_runs(value):
     """Tell whether any value is the runs of a row."""
     if not isinstance(value, list) or not 1 <= len(value) <= MOST_SUM:
         return False
-    if not all([_is_run(item) for item in value]):
-        return False
-    if sum([number * length for number, length in value]) > MOST_SUM:
-        return False
-    # Neighbouring pairs with the same number would be one run.
-    return len(merged(value)) == len(value)
-
-
-def _is_run(value):
-    if not isinstance(value, tuple) or len(value) != 2:
-        return False
-    return all([is_within(part, 1, MOST_SUM) for part in value])
+    left = MOST_SUM
+    before = 0
+    for item in value:
+        if not isinstance(item, tuple) or len(item) != 2:
+            return False
+        number, length = item
+        if type(number) is not int and not is_integer(number):
+            return False
+        if type(length) is not int and not is_integer(length):
+            return False
+        if not 1 <= number <= left or not 1 <= length <= left // number:
+            return False
+        # Neighbouring pairs with the same number would be one run.
+        if number == before:
+            return False
+        left -= number * length
+        before = number
+    return True
 
 
 def check_row(row):
@@ -45,7 +59,7 @@ def check_runs(runs):
 def runs_of(row):
     """Return the runs of a row."""
     check_row(row)
-    return merged([(entry, 1) for entry in row])
+    return grouped(row)
 
 
 def row_of(runs):
@@ -56,19 +70,27 @@ def row_of(runs):
 
 def swapped(row):
     """Return the row after one round."""
-    return spread(turned(runs_of(row)))
+    check_row(row)
+    return spread(turned(grouped(row)))
 
 
 def row_after(row, *, rounds=1):
     """Return the row after so many rounds, 0 to 10 ** 30."""
-    runs = runs_of(row)
+    check_row(row)
     check_rounds(rounds)
-    return spread(runs_after(runs, rounds))
+    return spread(runs_after(grouped(row), rounds))
 
 
 def rows_from(row):
     """Yield the row, then the rows after 1, 2, 3 and so on rounds, without an end."""
-    runs = runs_of(row)
-    while True:
+    check_row(row)
+    runs = grouped(row)
+    while not lengths_differ(runs):
         yield spread(runs)
         runs = turned(runs)
+    # From the first settled row on two rows alternate.
+    even = spread(runs)
+    odd = spread(turned(runs))
+    while True:
+        yield even
+        yield odd

@@ -1,30 +1,62 @@
 """Rounds played on runs instead of entries; nothing here checks its arguments."""
 
 
-def merged(pairs):
-    """Return the runs of what the pairs (number, length) stand for, one behind the other."""
+def grouped(row):
+    """Return the runs of a row."""
     runs = []
-    for number, length in pairs:
-        if runs and runs[-1][0] == number:
-            runs[-1] = (number, runs[-1][1] + length)
+    number = row[0]
+    length = 0
+    for entry in row:
+        if entry == number:
+            length += 1
         else:
             runs.append((number, length))
+            number = entry
+            length = 1
+    runs.append((number, length))
     return runs
 
 
 def spread(runs):
     """Return the row with these runs."""
-    return tuple([number for number, length in runs for _ in range(length)])
+    row = []
+    for number, length in runs:
+        row.extend([number] * length)
+    return tuple(row)
 
 
 def turned(runs):
     """Return the runs after one round."""
-    return merged([(length, number) for number, length in runs])
+    later = []
+    number = runs[0][1]
+    length = 0
+    for old_number, old_length in runs:
+        if old_length == number:
+            length = length + old_number
+        else:
+            later.append((number, length))
+            number = old_length
+            length = old_number
+    later.append((number, length))
+    return later
 
 
 def lengths_differ(runs):
     """Tell whether neighbouring runs have different lengths."""
-    return all([runs[k][1] != runs[k + 1][1] for k in range(len(runs) - 1)])
+    before = 0
+    for _, length in runs:
+        if length == before:
+            return False
+        before = length
+    return True
+
+
+def lengths_are_numbers(runs):
+    """Tell whether each run has a length that is equal to its number."""
+    for number, length in runs:
+        if number != length:
+            return False
+    return True
 
 
 def runs_after(runs, rounds):
@@ -36,4 +68,4 @@ def runs_after(runs, rounds):
     # From the first settled row on two rows alternate, so an even number of rounds changes nothing.
     if left % 2 == 1:
         return turned(runs)
-    return list(runs)
+    return runs

@@ -1,5 +1,6 @@
 """Rows for the tests, and rounds counted without the package."""
 
+import sys
 from itertools import groupby
 
 
@@ -117,3 +118,45 @@ NO_RUNS = NO_KIND + [
 
 NO_ROUNDS = [None, True, False, -1, -10 ** 30, 10 ** 30 + 1, 10 ** 64 - 1, 10 ** 5000, -10 ** 5000,
              "", "1", b"1", (), (1,), [], [1], {}, {1: 1}, {1}, object(), int, len]
+
+
+class Untouched(int):
+    """An entry of 1 that nobody may compare or add: a row is refused before it is reached."""
+
+    def refuse(self, *_):
+        raise AssertionError("an entry behind the one that decides was asked")
+
+    __eq__ = __ne__ = __lt__ = __le__ = __gt__ = __ge__ = refuse
+    __add__ = __radd__ = __sub__ = __rsub__ = __mul__ = __rmul__ = __index__ = refuse
+    __hash__ = None
+
+
+class UntouchedRun(tuple):
+    """A pair that nobody may look into."""
+
+    def refuse(self, *_):
+        raise AssertionError("a pair behind the one that decides was asked")
+
+    __eq__ = __ne__ = __len__ = __iter__ = __getitem__ = refuse
+    __hash__ = None
+
+
+def lines_run(call):
+    """How many lines of the package a call runs: a measure of its work that is the same at each try."""
+    count = 0
+
+    def trace(frame, event, _):
+        nonlocal count
+        if "runswap" not in frame.f_globals["__name__"]:
+            return None
+        if event == "line":
+            count += 1
+        return trace
+
+    before = sys.gettrace()
+    sys.settrace(trace)
+    try:
+        call()
+    finally:
+        sys.settrace(before)
+    return count
