@@ -1,6 +1,6 @@
 """Rows, their runs, and rounds."""
 
-from runswap.checks import MOST_SUM, check_rounds, is_integer
+from runswap.checks import MOST_ROUNDS, MOST_SUM, check_rounds, is_integer
 from runswap.errors import InvalidRow, InvalidRuns
 from runswap.turning import grouped, lengths_differ, runs_after, spread, turned
 
@@ -77,7 +77,7 @@ def swapped(row):
 def row_after(row, *, rounds=1):
     """Return the row after so many rounds, 0 to 10 ** 30."""
     check_row(row)
-    check_rounds(rounds)
+    check_rounds(rounds, MOST_ROUNDS)
     return spread(runs_after(grouped(row), rounds))
 
 

@@ -87,6 +87,31 @@ def plain_way(row):
     return way
 
 
+def plain_settled(row):
+    """Whether the row comes again."""
+    return plain_round(plain_round(row)) == row
+
+
+def plain_still(row):
+    return plain_round(row) == row
+
+
+def rows_before(total):
+    """For each row with this sum the rows that lead to it in one round, in ascending order."""
+    before = {row: [] for row in rows_with_sum(total)}
+    for row in sorted(before):
+        before[plain_round(row)].append(row)
+    return before
+
+
+def picked_numbers(count):
+    """Some of the numbers from 0 to count - 1, in ascending order: the first and last ones, and some between."""
+    picked = {0, 1, 2, count // 7, count // 3, count // 2, count - count // 5, count - 3, count - 2, count - 1}
+    for part in range(1, 8):
+        picked.add(count * 31415926535 * part // 10 ** 11 % count if count else 0)
+    return sorted(number for number in picked if 0 <= number < count)
+
+
 def nested(depth):
     """A tuple nested so many levels deep."""
     value = (1,)
@@ -118,6 +143,18 @@ NO_RUNS = NO_KIND + [
 
 NO_ROUNDS = [None, True, False, -1, -10 ** 30, 10 ** 30 + 1, 10 ** 64 - 1, 10 ** 5000, -10 ** 5000,
              "", "1", b"1", (), (1,), [], [1], {}, {1: 1}, {1}, object(), int, len]
+
+NO_INTEGERS = [None, True, False, "", "1", b"1", (), (1,), [], [1], {}, {1: 1}, {1}, object(), int, len, range(3),
+               ValueError("x"), nested(20)]
+
+NO_TOTALS = NO_INTEGERS + [0, -1, -200, 201, 202, 10 ** 30, 10 ** 64 - 1, -10 ** 30, 10 ** 5000, -10 ** 5000]
+
+# Wrong wherever numbers of rows are counted from 0.
+NO_NUMBERS = NO_INTEGERS + [-1, -2, -10 ** 30, 10 ** 64 - 1, 2 ** 200, 10 ** 5000, -10 ** 5000]
+
+NO_RUN_COUNTS = NO_TOTALS
+
+NO_NEEDS = NO_INTEGERS + [-1, 25, 26, 10 ** 30, -10 ** 30, 10 ** 5000, -10 ** 5000]
 
 
 class Untouched(int):

@@ -68,6 +68,102 @@ SETTLING = [
     """,
 ]
 
+BOUNDS = [
+    """
+    >>> from runswap.bounds import joined_runs
+    >>> row = (1, 2, 3, 3)
+    >>> [joined_runs(row), joined_runs((2, 1, 2)), joined_runs((3, 3, 5))]
+    [[[0, 1]], [[0, 1, 2]], []]
+    """,
+    """
+    >>> from runswap.bounds import most_rounds
+    >>> [most_rounds(total) for total in [1, 2, 3, 8, 9, 11, 12, 200]]
+    [0, 0, 1, 1, 2, 2, 3, 24]
+    """,
+    """
+    >>> from runswap.bounds import slowest_row
+    >>> from runswap.settling import rounds_needed
+    >>> [rounds_needed(slowest_row(total)) for total in [1, 3, 9, 12, 17]]
+    [0, 1, 2, 3, 4]
+    """,
+    """
+    >>> from runswap.bounds import least_total
+    >>> [least_total(rounds) for rounds in [0, 1, 2, 3, 4, 5, 24]]
+    [1, 3, 9, 12, 16, 20, 196]
+    """,
+]
+
+BEFORE = [
+    """
+    >>> from runswap.before import count_before, has_before
+    >>> rows = [(1, 2), (1, 1, 1), (2, 2, 2, 1, 1, 1, 1, 1)]
+    >>> [[has_before(row) for row in rows], [count_before(row) for row in rows]]
+    [[False, True, True], [0, 3, 16]]
+    """,
+    """
+    >>> from runswap.before import nth_before, number_before
+    >>> [nth_before((1, 1, 1), number) for number in range(3)]
+    [(1, 2), (2, 1), (3,)]
+    """,
+    """
+    >>> from runswap.before import number_before
+    >>> [number_before((2, 1)), number_before((3, 3, 5))]
+    [1, 15]
+    """,
+    """
+    >>> from runswap.before import entry_range
+    >>> [entry_range((1, 1, 1)), entry_range((2, 2, 2, 1, 1, 1, 1, 1)), entry_range((1, 2))]
+    [(1, 2), (3, 7), None]
+    """,
+]
+
+COUNTING = [
+    """
+    >>> from runswap.counting import count_rows
+    >>> [count_rows(total) for total in [1, 2, 3, 9]]
+    [1, 2, 4, 256]
+    """,
+    """
+    >>> from runswap.counting import nth_row, row_number
+    >>> [nth_row(3, number) for number in range(4)]
+    [(1, 1, 1), (1, 2), (2, 1), (3,)]
+    """,
+    """
+    >>> from runswap.counting import row_number
+    >>> row = (1, 2, 3, 3)
+    >>> row_number(row)
+    91
+    """,
+    """
+    >>> from runswap.counting import count_by_runs
+    >>> [count_by_runs(4, runs) for runs in [1, 2, 3, 4]]
+    [3, 4, 1, 0]
+    """,
+]
+
+CYCLES = [
+    """
+    >>> from runswap.cycles import count_settled, count_still
+    >>> [[count_settled(total) for total in range(1, 6)], [count_still(total) for total in range(1, 6)], count_still(9)]
+    [[1, 2, 2, 5, 8], [1, 0, 0, 1, 2], 2]
+    """,
+    """
+    >>> from runswap.cycles import nth_settled, settled_number
+    >>> [nth_settled(4, number) for number in range(5)]
+    [(1, 1, 1, 1), (1, 1, 2), (2, 1, 1), (2, 2), (4,)]
+    """,
+    """
+    >>> from runswap.cycles import settled_number
+    >>> settled_number((2, 1, 1))
+    2
+    """,
+    """
+    >>> from runswap.cycles import nth_still, still_number
+    >>> [nth_still(5, 0), nth_still(5, 1), still_number((2, 2, 1, 2, 2))]
+    [(1, 2, 2), (2, 2, 1), 0]
+    """,
+]
+
 # Point [9]: rounds, row, runs.
 TABLE = [
     (0, (1, 2, 3, 3), [(1, 1), (2, 1), (3, 2)]),
@@ -91,6 +187,18 @@ class ExamplesTest(unittest.TestCase):
 
     def test_settling(self):
         self.check(SETTLING)
+
+    def test_bounds(self):
+        self.check(BOUNDS)
+
+    def test_before(self):
+        self.check(BEFORE)
+
+    def test_counting(self):
+        self.check(COUNTING)
+
+    def test_cycles(self):
+        self.check(CYCLES)
 
     def test_table(self):
         from_start = rows_from((1, 2, 3, 3))

@@ -13,6 +13,14 @@ INTERFACE = {
              "swapped": "(row)", "row_after": "(row, *, rounds=1)", "rows_from": "(row)"},
     "settling": {"is_settled": "(row)", "is_still": "(row)", "rounds_needed": "(row)",
                  "settled_pair": "(row)", "run_counts": "(row)", "meeting": "(row, other)"},
+    "bounds": {"joined_runs": "(row)", "most_rounds": "(total)", "slowest_row": "(total)",
+               "least_total": "(rounds)"},
+    "before": {"has_before": "(row)", "count_before": "(row)", "nth_before": "(row, number)",
+               "number_before": "(row)", "entry_range": "(row)"},
+    "counting": {"count_rows": "(total)", "nth_row": "(total, number)", "row_number": "(row)",
+                 "count_by_runs": "(total, runs)"},
+    "cycles": {"count_settled": "(total)", "count_still": "(total)", "nth_settled": "(total, number)",
+               "settled_number": "(row)", "nth_still": "(total, number)", "still_number": "(row)"},
 }
 
 

@@ -2,12 +2,19 @@
 
 import unittest
 
-from runswap.errors import InvalidRow
+from runswap.before import count_before, entry_range, has_before, nth_before, number_before
+from runswap.bounds import joined_runs, most_rounds, slowest_row
+from runswap.counting import count_by_runs, count_rows, nth_row, row_number
+from runswap.cycles import (count_settled, count_still, nth_settled, nth_still, settled_number,
+                            still_number)
+from runswap.errors import InvalidNumber, InvalidRow, NotSettled
 from runswap.rows import is_row, is_runs, row_after, rows_from, runs_of, swapped
 from runswap.settling import is_settled, is_still, meeting, rounds_needed, run_counts, settled_pair
 from tests.plain import Untouched, UntouchedRun, lines_run, plain_rows
 
-OF_A_ROW = [runs_of, swapped, row_after, is_settled, is_still, rounds_needed, settled_pair, run_counts]
+OF_A_ROW = [runs_of, swapped, row_after, is_settled, is_still, rounds_needed, settled_pair, run_counts,
+            joined_runs, has_before, count_before, number_before, entry_range, row_number, settled_number,
+            still_number]
 NO_ENTRIES = [None, 0, -1, -10 ** 30, True, False, "1", (1,), [1], 201, 10 ** 5000]
 
 
@@ -78,6 +85,41 @@ class WorkTest(unittest.TestCase):
                 self.assertLess(lines_run(many), 2 * 20001 + 1500)
                 self.assertEqual(found[:8], plain_rows(row, 8))
                 self.assertEqual(found[-2:], plain_rows(row, 8)[5:7])
+
+    def check(self, most, calls):
+        for place, call in enumerate(calls):
+            with self.subTest(place=place):
+                self.assertLess(lines_run(call), most)
+
+    def test_calls_with_the_greatest_sum(self):
+        ones = (1,) * 200
+        row = nth_row(200, 2 ** 199 // 3)
+        settled = nth_settled(200, 2 ** 150)
+        self.check(2500, [lambda: joined_runs((1, 2) * 66), lambda: most_rounds(200), lambda: slowest_row(200),
+                          lambda: count_rows(200), lambda: nth_row(200, 2 ** 198), lambda: row_number(ones),
+                          lambda: has_before(ones), lambda: number_before(row)])
+        self.check(18000, [lambda: count_before(ones), lambda: nth_before(ones, 10 ** 40), lambda: entry_range(ones),
+                           lambda: count_still(200), lambda: nth_still(200, 10 ** 15),
+                           lambda: still_number((14,) * 14 + (2, 2))])
+        self.check(25000, [lambda: count_by_runs(200, 66), lambda: count_by_runs(200, 133)])
+        self.check(60000, [lambda: count_settled(200), lambda: nth_settled(200, 2 ** 150),
+                           lambda: settled_number(settled)])
+
+    def test_calls_with_small_sums(self):
+        self.check(2000, [lambda: count_settled(13), lambda: nth_settled(13, 200), lambda: settled_number((13,)),
+                          lambda: settled_number((2, 1, 1, 9)), lambda: count_by_runs(13, 5),
+                          lambda: nth_before((1,) * 13, 100), lambda: number_before((1, 2, 1, 2, 3, 4)),
+                          lambda: entry_range((1,) * 13), lambda: nth_still(13, 1), lambda: row_number((1,) * 13)])
+
+    def test_wrong_numbers_are_refused_before_settled_rows_are_counted(self):
+        def wrong():
+            for number in [None, -1, 2 ** 199]:
+                with self.assertRaises(InvalidNumber):
+                    nth_settled(200, number)
+            with self.assertRaises(NotSettled):
+                settled_number((1, 2) * 60)
+
+        self.assertLess(lines_run(wrong), 1500)
 
 
 if __name__ == "__main__":
