@@ -1,7 +1,6 @@
 """The rows before a row: those from which one round leads to it."""
 
-from runswap.checks import check_number
-from runswap.numbering import go_to, number_of
+from runswap.numbering import number_of, row_with
 from runswap.rows import check_row
 from runswap.turning import grouped, turned
 
@@ -37,10 +36,7 @@ def count_before(row):
 def nth_before(row, number):
     """Return the row before with this number."""
     check_row(row)
-    path = BeforePath(grouped(row))
-    check_number(number, path.count_all())
-    go_to(path, number)
-    return path.row_so_far()
+    return row_with(BeforePath(grouped(row)), number)
 
 
 def number_before(row):

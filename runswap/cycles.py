@@ -2,7 +2,7 @@
 
 from runswap.checks import check_number, check_total
 from runswap.errors import NotSettled, NotStill
-from runswap.numbering import go_to, number_of
+from runswap.numbering import number_of, row_with
 from runswap.rows import check_row
 from runswap.settled_ways import SettledWays
 from runswap.turning import grouped, lengths_are_numbers, lengths_differ
@@ -19,10 +19,7 @@ def nth_settled(total, number):
     check_total(total)
     # There are no more settled rows than rows: most wrong numbers are refused before the rows are counted.
     check_number(number, 1 << (total - 1))
-    path = SettledPath(total)
-    check_number(number, path.count_all())
-    go_to(path, number)
-    return path.row_so_far()
+    return row_with(SettledPath(total), number)
 
 
 def settled_number(row):
@@ -91,10 +88,7 @@ def count_still(total):
 def nth_still(total, number):
     """Return the still row with this sum and this number."""
     check_total(total)
-    path = StillPath(total)
-    check_number(number, path.count_all())
-    go_to(path, number)
-    return path.row_so_far()
+    return row_with(StillPath(total), number)
 
 
 def still_number(row):
