@@ -96,6 +96,20 @@ def plain_still(row):
     return plain_round(row) == row
 
 
+def plain_turned(runs):
+    """The runs after one round, played on the runs: for rows that are too long to be spread out."""
+    return [(length, sum(number for number, _ in group)) for length, group in groupby(runs, key=lambda run: run[1])]
+
+
+def plain_joined(blocks):
+    """The runs of a long row."""
+    return [(number, sum(length for _, length in group)) for number, group in groupby(blocks, key=lambda run: run[0])]
+
+
+def plain_spread(blocks):
+    return tuple(number for number, length in blocks for _ in range(length))
+
+
 def rows_before(total):
     """For each row with this sum the rows that lead to it in one round, in ascending order."""
     before = {row: [] for row in rows_with_sum(total)}
@@ -155,6 +169,35 @@ NO_NUMBERS = NO_INTEGERS + [-1, -2, -10 ** 30, 10 ** 64 - 1, 2 ** 200, 10 ** 500
 NO_RUN_COUNTS = NO_TOTALS
 
 NO_NEEDS = NO_INTEGERS + [-1, 25, 26, 10 ** 30, -10 ** 30, 10 ** 5000, -10 ** 5000]
+
+
+NO_ROW_ROUNDS = NO_ROUNDS + [ValueError("x"), nested(20)]
+
+MANY = 10 ** 28
+
+NO_BLOCKS = NO_KIND + [
+    (), [], [(1, 1)], [[1, 1]], [(1, 1), (2, 1)], (1, 2), (1,), ((),), ([],), ((), ()), ([1, 1],), ((1, 1), [2, 1]),
+    ([1, 1], (2, 1)), ((1,),), ((1, 1, 1),), ((1, 1), (2,)), ((1, 1), (2, 1, 1)), ((1, 1), None), (None, (1, 1)),
+    ("12",), (b"12",), ({1: 1, 2: 2},), ({1, 2},), ((0, 1),), ((1, 0),), ((-1, 1),), ((1, -1),), ((-1, -1),),
+    ((True, 1),), ((1, True),), ((False, 1),), ((1, 1), (True, 1)), (("1", 1),), ((1, "1"),), ((None, 1),),
+    ((1, None),), (((1,), 1),), ((1, [1]),), ((MANY + 1, 1),), ((1, MANY + 1),), ((10 ** 5000, 1),),
+    ((1, 10 ** 5000),), ((1, 1), (2, MANY + 1)), ((1, 1),) * 201, ((1, 1), (2, 1)) * 101, ((1, 1),) * 100000,
+    nested(20)]
+
+NO_ENTRIES = NO_INTEGERS
+
+# Wrong wherever places or indexes are counted from 0.
+NO_PLACES = NO_INTEGERS + [-1, -2, -10 ** 30, -10 ** 5000]
+
+NO_OPERATIONS = NO_KIND + [
+    (), [], ["swap"], ("swap", 1), ("swap", None), ("swap", ()), ("put",), ("put", 0), ("put", 0, 1, 1), ("take",),
+    ("take", 0, 0), ("change",), ("change", 0), ("change", 0, 1, 1), ("undo",), ("log",), ("preview",), ("swap ",),
+    ("Swap",), ("SWAP",), ("", 0), (b"swap",), (None,), (0,), (True, 0), (("swap",),), (["swap"],),
+    ("s", "w", "a", "p"),
+    ["put", 0, 1], ["take", 0], ["change", 0, 1], ([], 0, 1), ({}, 0), ({1}, 0), (len, 0), nested(20)]
+
+NO_TEXTS = [None, True, False, 0, 3, 12, -1, 10 ** 5000, b"1 2", b"", (), ("1",), [], ["1", "2"], (1, 2), {}, {1: 1},
+            {"1"}, range(1, 3), object(), int, len, ValueError("1"), nested(20)]
 
 
 class Untouched(int):

@@ -164,6 +164,136 @@ CYCLES = [
     """,
 ]
 
+LONG = [
+    """
+    >>> from runswap.long import is_blocks
+    >>> [is_blocks(((7, 10 ** 28), (7, 5))), is_blocks(((7, 0),)), is_blocks(())]
+    [True, False, False]
+    """,
+    """
+    >>> from runswap.long import long_after
+    >>> blocks = ((7, 4), (3, 4), (2, 5))
+    >>> [long_after(blocks, rounds=rounds) for rounds in [0, 1, 2, 10 ** 30]]
+    [((7, 4), (3, 4), (2, 5)), ((4, 10), (5, 2)), ((10, 4), (2, 5)), ((10, 4), (2, 5))]
+    """,
+    """
+    >>> from runswap.long import long_needed
+    >>> [long_needed(((7, 4), (3, 4), (2, 5))), long_needed(((7, 10 ** 28),)), long_needed(((1, 1), (2, 1), (3, 2)))]
+    [1, 0, 2]
+    """,
+    """
+    >>> from runswap.long import long_entry
+    >>> blocks = ((7, 10 ** 28), (3, 5))
+    >>> [long_entry(blocks, 7), long_entry(blocks, 6), long_entry(blocks, 10 ** 28 + 4, rounds=2)]
+    [5, 10000000000000000000000000000, 3]
+    """,
+    """
+    >>> from runswap.long import long_count
+    >>> blocks = ((7, 4), (3, 4), (7, 5))
+    >>> [long_count(blocks, 7, rounds=0), long_count(blocks, 4), long_count(blocks, 8)]
+    [9, 10, 0]
+    """,
+    """
+    >>> from runswap.long import long_find
+    >>> blocks = ((7, 4), (3, 4), (7, 5))
+    >>> [long_find(blocks, 7, 4, rounds=0), long_find(blocks, 5, 0), long_find(blocks, 4, 10)]
+    [8, 10, None]
+    """,
+]
+
+LIVE = [
+    """
+    >>> from runswap.live import LiveRow
+    >>> live = LiveRow((1, 2, 3, 3))
+    >>> [live.row, live.runs, live.stands, len(live), LiveRow.LIMIT]
+    [(1, 2, 3, 3), [(1, 1), (2, 1), (3, 2)], False, 4, 200]
+    """,
+    """
+    >>> from runswap.live import LiveRow
+    >>> LiveRow.of(3, 3, 5).stands
+    True
+    """,
+    """
+    >>> from runswap.live import LiveRow
+    >>> LiveRow.settled(4, number=2).row
+    (2, 1, 1)
+    """,
+    """
+    >>> from runswap.live import LiveRow
+    >>> live = LiveRow.of(1, 2, 3, 3)
+    >>> [live.swap(), live.swap(), live.stands]
+    [(1, 1, 1, 2, 2, 2), (3, 3, 3), True]
+    """,
+    """
+    >>> from runswap.live import LiveRow
+    >>> live = LiveRow.of(3, 5)
+    >>> live.put(1, 3)
+    >>> live.row
+    (3, 3, 5)
+    """,
+    """
+    >>> from runswap.live import LiveRow
+    >>> live = LiveRow.of(3, 3, 5)
+    >>> [live.take(2), live.row]
+    [5, (3, 3)]
+    """,
+    """
+    >>> from runswap.live import LiveRow
+    >>> live = LiveRow.of(3, 3, 5)
+    >>> [live.change(2, 3), live.runs]
+    [5, [(3, 3)]]
+    """,
+    """
+    >>> from runswap.live import LiveRow
+    >>> live = LiveRow.of(1, 2)
+    >>> row = live.swap()
+    >>> live.undo()
+    >>> [row, live.row]
+    [(1, 1, 1), (1, 2)]
+    """,
+    """
+    >>> from runswap.live import LiveRow
+    >>> live = LiveRow.of(3, 5)
+    >>> live.put(2, 7)
+    >>> [live.take(0), live.log()]
+    [3, [('put', 2, 7), ('take', 0)]]
+    """,
+    """
+    >>> from runswap.live import LiveRow
+    >>> live = LiveRow.of(1, 2)
+    >>> [live.preview(("swap",), ("put", 3, 2)), live.row, live.log()]
+    [(1, 1, 1, 2), (1, 2), []]
+    """,
+    """
+    >>> from runswap.live import LiveRow
+    >>> [LiveRow.of(2, 1) == LiveRow((2, 1)), LiveRow.of(2, 1) == (2, 1)]
+    [True, False]
+    """,
+]
+
+TEXTS = [
+    """
+    >>> from runswap.texts import read_row, show_row
+    >>> [show_row((3, 3, 5)), read_row('1 2 3 3')]
+    ['3 3 5', (1, 2, 3, 3)]
+    """,
+    """
+    >>> from runswap.texts import read_runs, show_runs
+    >>> [show_runs([(3, 2), (5, 1)]), read_runs('2*3 1*5')]
+    ['3*2 5*1', [(2, 3), (1, 5)]]
+    """,
+]
+
+CONSOLE = [
+    """
+    >>> from runswap.console import Console
+    >>> console = Console()
+    >>> opened = console.say('row 1 2 3 3')
+    >>> [console.say(command) for command in ['runs', 'needed', 'pair', 'before', 'number', 'meet 3 3 3', 'swap', 'take 0']]
+    ['1*1 2*1 3*2', '2', '3 3 3 / 3 3 3', '0', '91', '2', '1 1 1 2 2 2', '1']
+    """,
+]
+
 # Point [9]: rounds, row, runs.
 TABLE = [
     (0, (1, 2, 3, 3), [(1, 1), (2, 1), (3, 2)]),
@@ -199,6 +329,18 @@ class ExamplesTest(unittest.TestCase):
 
     def test_cycles(self):
         self.check(CYCLES)
+
+    def test_long(self):
+        self.check(LONG)
+
+    def test_live(self):
+        self.check(LIVE)
+
+    def test_texts(self):
+        self.check(TEXTS)
+
+    def test_console(self):
+        self.check(CONSOLE)
 
     def test_table(self):
         from_start = rows_from((1, 2, 3, 3))

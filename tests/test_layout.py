@@ -21,7 +21,20 @@ INTERFACE = {
                  "count_by_runs": "(total, runs)"},
     "cycles": {"count_settled": "(total)", "count_still": "(total)", "nth_settled": "(total, number)",
                "settled_number": "(row)", "nth_still": "(total, number)", "still_number": "(row)"},
+    "long": {"is_blocks": "(value)", "long_after": "(blocks, *, rounds=1)", "long_needed": "(blocks)",
+             "long_entry": "(blocks, place, *, rounds=1)", "long_count": "(blocks, number, *, rounds=1)",
+             "long_find": "(blocks, number, index, *, rounds=1)"},
+    "texts": {"show_row": "(row)", "read_row": "(text)", "show_runs": "(runs)", "read_runs": "(text)"},
 }
+CLASSES = {
+    ("live", "LiveRow"): {"__init__": "(self, row)", "swap": "(self)", "put": "(self, place, number)",
+                          "take": "(self, place)", "change": "(self, place, number)", "undo": "(self)",
+                          "log": "(self)", "preview": "(self, *operations)", "__len__": "(self)",
+                          "__eq__": "(self, other)"},
+    ("console", "Console"): {"__init__": "(self)", "say": "(self, command)"},
+}
+CLASS_METHODS = {"of": "(*numbers)", "settled": "(total, *, number=0)"}
+PROPERTIES = ["row", "runs", "stands"]
 
 
 class InterfaceTest(unittest.TestCase):
@@ -34,6 +47,23 @@ class InterfaceTest(unittest.TestCase):
                     self.assertEqual(function.__module__, "runswap." + file)
                     self.assertEqual(function.__name__, name)
                     self.assertEqual(str(inspect.signature(function)), parameters)
+
+    def test_methods_stand_in_their_class(self):
+        for (file, name), methods in CLASSES.items():
+            found = getattr(importlib.import_module("runswap." + file), name)
+            self.assertEqual((found.__module__, found.__name__), ("runswap." + file, name))
+            for method, parameters in methods.items():
+                with self.subTest(name=name, method=method):
+                    self.assertEqual(str(inspect.signature(vars(found)[method])), parameters)
+
+    def test_class_methods_properties_and_values_of_live_rows(self):
+        found = importlib.import_module("runswap.live").LiveRow
+        for method, parameters in CLASS_METHODS.items():
+            self.assertIsInstance(vars(found)[method], classmethod)
+            self.assertEqual(str(inspect.signature(getattr(found, method))), parameters)
+        for name in PROPERTIES:
+            self.assertIsInstance(vars(found)[name], property)
+        self.assertEqual(vars(found)["LIMIT"], 200)
 
     def test_rows_from_is_a_generator(self):
         rows = importlib.import_module("runswap.rows")
