@@ -1,11 +1,17 @@
 """The rows before a row: those from which one round leads to it."""
 
-from runswap.numbering import number_of, row_with
+from runswap.beginnings import Beginnings, CountedBeginnings, counted_ways
+from runswap.checks import check_number
+from runswap.counts import DIFFERENT, DIFFERENT_BEGUN
 from runswap.rows import check_row
-from runswap.turning import grouped, turned
+from runswap.turning import grouped, spread, turned
 
 # More than any row has entries.
 NEVER = 1000
+# With no more columns than this part of its length, a group is counted by columns, else number by number.
+FEW_COLUMNS = 5
+# Behind the last group there is one way to go on, and no number with which it begins.
+BEHIND_ALL = (1, ())
 
 
 def has_before(row):
@@ -30,95 +36,115 @@ def count_before(row):
     runs = grouped(row)
     if not _can_be_reached(runs):
         return 0
-    return BeforePath(runs).count_all()
+    behind = BEHIND_ALL
+    for place in range(len(runs) - 1, 0, -1):
+        _, behind = _with_group(runs[place][1], runs[place - 1][1], behind)
+    total, begun = behind
+    length = runs[0][1]
+    if length < len(DIFFERENT_BEGUN):
+        ends = DIFFERENT_BEGUN[length]
+    else:
+        ends = Beginnings(DIFFERENT, None, length, False).begun(len(begun))
+    # All ways but those in which the first group ends with the number with which the next one begins.
+    return DIFFERENT[length] * total - sum([ways * same for ways, same in zip(ends, begun)])
 
 
 def nth_before(row, number):
     """Return the row before with this number."""
     check_row(row)
-    return row_with(BeforePath(grouped(row)), number)
+    runs = grouped(row)
+    if not _can_be_reached(runs):
+        check_number(number, 0)
+    groups, total = _groups(runs)
+    check_number(number, total)
+    rank = number
+    before = []
+    last = 0
+    for group, (copies, length) in zip(groups, runs):
+        if group is None:
+            last = length
+            before.append((last, copies))
+            continue
+        left = length
+        while left > 0:
+            last, rank = group.step_at(last, left, rank)
+            before.append((last, copies))
+            left -= last
+    return spread(before)
 
 
 def number_before(row):
     """Return the number of the row among the rows before the row to which it leads."""
     check_row(row)
     runs = grouped(row)
-    return number_of(BeforePath(turned(runs)), [number for number, _ in runs])
-
-
-class BeforePath:
-    """A path through the rows before the row with these runs; a step is the number of a run."""
-
-    def __init__(self, runs):
-        self._runs = runs
-        self._groups = _groups(runs)
-        self._place = 0
-        self._left = runs[0][1]
-        self._last = 0
-        self._entries = []
-
-    def count_all(self):
-        return sum(self._groups[0][-1])
-
-    def is_done(self):
-        return self._place == len(self._runs)
-
-    def ways(self, number):
-        if number == self._last:
-            return 0
-        return self._groups[self._place][self._left][number - 1]
-
-    def go(self, number):
-        self._entries.extend([number] * self._runs[self._place][0])
-        self._last = number
-        self._left -= number
-        if self._left == 0:
-            self._place += 1
-            if not self.is_done():
-                self._left = self._runs[self._place][1]
-
-    def row_so_far(self):
-        return tuple(self._entries)
+    later = turned(runs)
+    groups, _ = _groups(later)
+    place = 0
+    left = later[0][1]
+    last = 0
+    found = 0
+    for number, _ in runs:
+        if left == 0:
+            place += 1
+            left = later[place][1]
+        if number > 1 and groups[place] is not None:
+            found += groups[place].ways_below(last, left, number)
+        last = number
+        left -= number
+    return found
 
 
 def _groups(runs):
-    """Return for each run of a row what `_group` tells of the group of runs before it."""
+    """Return for each run of a row in how many ways the group before it can begin, and in how many all of them can."""
     groups = []
-    ends = [1] * runs[-1][1]
+    behind = BEHIND_ALL
     for place in range(len(runs) - 1, -1, -1):
-        group = _group(runs[place][1], ends)
+        ahead = runs[place - 1][1] if place > 0 else 0
+        group, behind = _with_group(runs[place][1], ahead, behind)
         groups.append(group)
-        if place > 0:
-            ends = _ends(group[-1], runs[place - 1][1])
     groups.reverse()
-    return groups
+    return (groups, behind[0])
 
 
-def _ends(ways, most):
-    """Return in how many ways one can go on behind the numbers from 1 to the greatest one."""
-    total = sum(ways)
-    # No number follows itself; numbers above those that can follow exclude nothing.
-    return [total - same for same in ways[:most]] + [total] * (most - len(ways))
+def _with_group(length, ahead, behind):
+    """Return in how many ways a group with this length can begin, and what the group ahead of it must know.
 
-
-def _group(length, ends):
-    """Return in how many ways one can go on in a group whose numbers add up to the length.
-
-    Item s of the list is for numbers that still have to add up to s: a list that has at index v - 1 in how many
-    ways one can go on with the number v. Item v - 1 of `ends` is in how many ways one can go on behind the
-    group if its last number is v.
+    None stands for a group that can only be its length. What is known of all behind a group is in how many ways it
+    can go on, and in how many of them with the number 1, with 2 and so on, up to the length of the group.
     """
-    totals = [0]
-    group = [[]]
-    for left in range(1, length + 1):
-        half = left // 2
-        ways = [totals[left - number] - group[left - number][number - 1] for number in range(1, half + 1)]
-        # Numbers above the half are greater than what is left behind them, so they can't follow themselves.
-        ways.extend(totals[left - half - 1:0:-1])
-        ways.append(ends[left - 1])
-        totals.append(sum(ways))
-        group.append(ways)
-    return group
+    total, begun = behind
+    if length <= 2:
+        if length <= len(begun):
+            total -= begun[length - 1]
+        return (None, (total, (total,) if length == 1 else (0, total)))
+    if not begun:
+        if length < len(DIFFERENT_BEGUN):
+            group = CountedBeginnings(DIFFERENT_BEGUN[:length + 1])
+        else:
+            group = Beginnings(DIFFERENT, None, length, False)
+    else:
+        # No number follows itself; numbers above those that can follow exclude nothing.
+        ends = [total - same for same in begun[:length]] + [total] * (length - len(begun))
+        if length <= FEW_COLUMNS * len(begun):
+            group = CountedBeginnings(counted_ways(length, ends))
+        else:
+            group = Beginnings(_counts(length, total, begun), ends, length, False)
+    return (group, (group.total_ways(), group.begun(ahead)))
+
+
+def _counts(length, total, begun):
+    """Return in how many ways numbers can add up to each sum up to the length, and go on behind their group.
+
+    There are `total` ways to go on, but behind the number v these are less by item v - 1 of `begun`.
+    """
+    counts = [total * ways for ways in DIFFERENT[:length + 1]]
+    for number, same in enumerate(begun, 1):
+        # In how many ways the sum ends with the number: as in Beginnings.
+        ending = [0] * number + list(DIFFERENT[:min(number, length + 1 - number)])
+        for rest in range(number, length + 1 - number):
+            ending.append(DIFFERENT[rest] - ending[rest])
+        counts = [count - same * ways for count, ways in zip(counts, ending)]
+    return counts
 
 
 def entry_range(row):
@@ -127,43 +153,50 @@ def entry_range(row):
     runs = grouped(row)
     if not _can_be_reached(runs):
         return None
-    return (_least(runs, 1), -_least(runs, -1))
+    fewest = (0, 0, 0)
+    most = (0, 0, 0)
+    for copies, length in reversed(runs):
+        fewest = _fewest(copies, length, fewest)
+        most = _most(copies, length, most)
+    return (fewest[0], most[0])
 
 
-def _least(runs, sign):
-    """Return the least number of entries of the rows before, each entry counted as 1 or as -1."""
-    best = (0, 0, 0)
-    for number, length in reversed(runs):
-        best = _best_group(sign * number, length, best)
-    return best[0]
+def _fewest(copies, length, behind):
+    """Return how few entries a group and all behind it can have.
 
-
-def _best_group(cost, length, behind):
-    """Return the best of a group of runs and of all that follows, if the numbers add up to the length.
-
-    The best are three integers: the least cost, a number that it begins with, and the least cost if it begins
-    with any other number.
+    There are so many copies of each number of the group, and the numbers add up to the length. What is returned, and
+    what is known of all behind, are three integers: the fewest entries, a number with which they begin, and the
+    fewest entries if they begin with any other number.
     """
-    best = [behind]
-    for left in range(1, length + 1):
-        ways = sorted([(cost + _cost_behind(best[left - number], number), number) for number in _numbers(left)])
-        other = ways[1][0] if len(ways) > 1 else NEVER
-        best.append((ways[0][0], ways[0][1], other))
-    return best[length]
+    best, first, other = behind
+    single = copies + (other if first == length else best)
+    if length <= 2:
+        return (single, length, NEVER)
+    # Two numbers can begin and end with several numbers, so what follows never stands in their way.
+    double = 2 * copies + best
+    if single <= double:
+        return (single, length, double)
+    return (double, 1, double)
 
 
-def _cost_behind(best, number):
-    """Return the least cost of what follows this number, which can't be the same number."""
-    return best[2] if best[1] == number else best[0]
+def _most(copies, length, behind):
+    """Return the same for the most entries.
 
-
-def _numbers(left):
-    """Return the numbers to try first in the search for the fewest and for the most runs that add up to `left`.
-
-    A number of at least 5 can be split by taking 1 or 2 off its front or its end, four ways, of which each
-    neighbour excludes at most one. So the most runs have numbers up to 4. For the same reason two runs are always
-    enough, one of them with the number 1 or 2.
+    The most numbers are 1 and 2 in turn, where one number may be greater by 1. If the rest of length // 3 is 1, they
+    are 1 2 1 .. 2 1 alone; if it is 0, they begin with one of 1 and 2 and end with the other; if it is 2, they begin
+    and end with 1, or begin and end with 2. With one number less (or two, in the first case), they can begin with
+    any other number and end with any number but the one that follows.
     """
-    if left < 8:
-        return list(range(1, left + 1))
-    return [1, 2, 3, 4, left - 2, left - 1, left]
+    best, first, other = behind
+    if length <= 2:
+        return (copies + (other if first == length else best), length, -NEVER)
+    most = copies * ((2 * length + 1) // 3)
+    if length % 3 == 1 and first != 1:
+        return (most + best, 1, most - copies + best)
+    if length % 3 == 1:
+        return (max(most + other, most - copies + best), 1, max(most - copies + other, most - 2 * copies + best))
+    if first > 2 or first == 0:
+        return (most + best, 1, most + best)
+    # One way begins with this number and ends with the number that does not follow.
+    begin = first if length % 3 == 0 else 3 - first
+    return (most + best, begin, max(most + other, most - copies + best))

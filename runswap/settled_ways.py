@@ -1,116 +1,125 @@
-"""How many settled rows there are with each sum up to one, and how they begin."""
+"""In how many ways settled rows begin and go on."""
 
-from math import isqrt
+from runswap.settled_counts import BEGUN_1, BEGUN_2, BEGUN_3, BEGUN_4, BEGUN_5, BEGUN_6, SETTLED
+from runswap.settled_counts_more import BEGUN_7, BEGUN_8, BEGUN_9, BEGUN_10, BEGUN_11, BEGUN_12, BEGUN_13
+
+# There are tables for rows that begin with a number up to this one.
+MOST_TABLE = 13
+
+# For greater numbers: which tables are counted n times the number further on, and how often; n from 1 on.
+SHARES = (
+    ((0, 1), (1, -1)),
+    ((0, 1), (2, -1)),
+    ((0, -1), (1, 1), (2, 1), (3, -1)),
+    ((3, 1), (4, -1)),
+    ((0, -1), (3, 1), (4, 1), (5, -1)),
+    ((0, 2), (1, -1), (3, -2), (4, 1), (5, 1), (6, -1)),
+    ((0, -1), (1, 1), (2, -1), (3, 1), (4, -1), (5, 1), (6, 1), (7, -1)),
+    ((0, -1), (2, 2), (4, -1), (5, -1), (6, 1), (7, 1), (8, -1)),
+    ((0, 3), (1, -1), (2, -2), (6, -1), (7, 1), (8, 1), (9, -1)),
+    ((0, -4), (1, 2), (2, 1), (4, 3), (5, -2), (7, -1), (8, 1), (9, 1), (10, -1)),
+    ((0, 2), (1, -2), (2, 1), (3, -1), (4, -2), (5, 3), (6, -1), (8, -1), (9, 1), (10, 1), (11, -1)),
+    ((0, 2), (2, -3), (3, 3), (4, -2), (6, 1), (7, -1), (9, -1), (10, 1), (11, 1), (12, -1)),
+    ((0, -3), (1, 2), (2, 3), (3, -4), (4, 3), (5, -2), (7, 2), (8, -1), (10, -1), (11, 1), (12, 1), (13, -1)),
+    ((1, -1), (2, -1), (3, 1), (4, -1), (5, 3), (7, -2), (8, 2), (9, -1), (11, -1), (12, 1), (13, 1)),
+)
+# A sum over steps of one size is kept for all sums if the steps are so small and so many.
+SMALL_STEP = 3
+MANY_STEPS = 16
+# No run: its number is no entry, and no run has its length.
+NO_RUN = (0, 201)
+# With fewer steps, adding one by one takes less time than slices.
+SOME_STEPS = 5
 
 
 class SettledWays:
-    """The numbers of settled rows with the sums from 0 to `total`: of all, and of those that begin with a number.
-
-    The numbers for all sums are packed into one integer, that for the sum s in the bits from total * s on: none is
-    greater than 2 ** (total - 1). So one addition adds the numbers for many sums.
+    """The numbers of settled rows that begin with a number, with a run, or behind a run.
 
     To write (k, v) for each run (v, k) makes a settled row from a settled row. So as many of them begin with a run
     of the length k as with one of the number k.
     """
 
     def __init__(self, total):
+        # No greater sum is asked for.
         self._total = total
-        # With the sum 0 there is one way to go on: not at all.
-        self._rows = 1
-        self._begun = [0] * (total + 1)
-        self._behind = {}
-        blocks = _blocks(total)
-        for part in range(1, total + 1):
-            # The numbers for the sums below `part` are complete here.
-            self._put(part, self._found(part, [block for block in blocks if part % block[0] == 0]))
-
-    def _found(self, part, blocks):
-        """Return what arises if a run of a block stands in front of rows; packed from the sum `part` on.
-
-        For a block with the size s, these are the rows with the sums from part - s to part - 1. As its runs have at
-        least the sum s, nothing that arises has a sum below `part`. Item v is the number of those that begin
-        with v. Item k of `kept` is the number of rows that begin with run k, packed from the sum part - s on.
-        """
-        bits = self._total
-        found = [0] * (2 * blocks[-1][0])
-        for size, runs, kept in blocks:
-            first = part - size
-            # The greatest of these sums may leave no room for a run in front.
-            mask = (1 << (bits * min(size, bits + 1 - part))) - 1
-            rows = (self._rows >> (bits * first)) & mask
-            begun = [(packed >> (bits * first)) & mask for packed in self._begun[:2 * size]]
-            for place, (number, length) in enumerate(runs):
-                added = number * length
-                if first + added > bits:
-                    break
-                # The next run has another number and another length; the rows with both are taken off twice.
-                ways = rows - begun[number] - begun[length] + (kept[place] & mask)
-                ways = ways << (bits * (added - size))
-                kept[place] = (kept[place] >> (bits * size)) + ways
-                found[number] += ways
-                if number != length:
-                    found[length] += ways
-        return found
-
-    def _put(self, part, found):
-        """Add what was found."""
-        bits = self._total
-        # Sums above the total are not asked for.
-        mask = (1 << (bits * (bits + 1 - part))) - 1
-        self._rows += (sum(found) & mask) << (bits * part)
-        for number, ways in enumerate(found):
-            if ways != 0:
-                self._begun[number] += (ways & mask) << (bits * part)
-
-    def rows(self, part):
-        """Return the number of settled rows with the sum `part`."""
-        return self._at(self._rows, part)
+        self._tables = (SETTLED, BEGUN_1, BEGUN_2, BEGUN_3, BEGUN_4, BEGUN_5, BEGUN_6, BEGUN_7, BEGUN_8, BEGUN_9,
+                        BEGUN_10, BEGUN_11, BEGUN_12, BEGUN_13)
+        self._kept = {}
 
     def begun(self, number, part):
-        """Return the number of those that begin with this number."""
-        return self._at(self._begun[number], part)
+        """Return the number of settled rows with the sum `part` that begin with this number.
 
-    def begun_with(self, number, length, part):
-        """Return the number of those that begin with this run."""
-        return self.behind(number, length, part - number * length)
+        Behind a run (v, k) stands a row that begins neither with v nor with a run of the length k. So the rows that
+        begin with v are, for all k and j from 1 on, those with the sum part - j * k * v, less those of them that
+        begin with v, less those that begin with k. Put for the rows that begin with v the same again, and so on: what
+        is left are shares of tables for the sums part - n * v, which depend on n alone.
+        """
+        if number <= MOST_TABLE:
+            return self._tables[number][part]
+        ways = 0
+        left = part - number
+        for shares in SHARES:
+            if left < 0:
+                break
+            for table, times in shares:
+                ways += times * self._tables[table][left]
+            left -= number
+        return ways
 
     def behind(self, number, length, part):
-        """Return in how many ways one can go on behind this run, with the sum `part`."""
-        if part < 0:
-            return 0
-        key = (number, length)
-        if key not in self._behind:
-            self._behind[key] = self._all_behind(number, length)
-        return self._at(self._behind[key], part)
+        """Return in how many ways one can go on behind this run, with the sum `part`, which may be less than 0.
 
-    def _all_behind(self, number, length):
-        """Return the same for all sums, packed."""
-        bits = self._total
-        ways = self._rows - self._begun[number] - self._begun[length]
-        # The rows that begin with this very run are taken off twice. There is one for each way to go on behind it.
-        jump = number * length
-        while jump <= bits:
-            ways += ways << (bits * jump)
-            jump *= 2
-        return ways & ((1 << (bits * (bits + 1))) - 1)
+        These are the rows that don't begin with the number, and not with the length. The rows that begin with this
+        very run are taken off twice so; there is one for each way to go on behind it, with a smaller sum.
+        """
+        step = number * length
+        if step <= SMALL_STEP and part >= MANY_STEPS * step:
+            return self._behind_all(number, length)[part]
+        if number > MOST_TABLE or length > MOST_TABLE or part < SOME_STEPS * step:
+            ways = 0
+            left = part
+            while left >= 0:
+                ways += SETTLED[left] - self.begun(number, left) - self.begun(length, left)
+                left -= step
+            return ways
+        same_number = self._tables[number]
+        same_length = self._tables[length]
+        return sum(SETTLED[part::-step]) - sum(same_number[part::-step]) - sum(same_length[part::-step])
 
-    def _at(self, packed, part):
-        """Return the number for the sum `part`."""
-        return (packed >> (self._total * part)) & ((1 << self._total) - 1)
+    def _behind_all(self, number, length):
+        """Return the same for all sums."""
+        step = number * length
+        key = (min(number, length), max(number, length))
+        if key not in self._kept:
+            same_number = self._tables[number]
+            same_length = self._tables[length]
+            ways = [SETTLED[part] - same_number[part] - same_length[part] for part in range(self._total + 1)]
+            for part in range(step, self._total + 1):
+                ways[part] += ways[part - step]
+            self._kept[key] = ways
+        return self._kept[key]
 
+    def going_on(self, number, length, part):
+        """Return how many rows with the sum `part` begin with this number, but not with this length of its run."""
+        left = part - number * length
+        if left < 0:
+            return self.begun(number, part)
+        return self.begun(number, part) - self.behind(number, length, left)
 
-def _blocks(total):
-    """Return tuples of a size, the runs with a sum from it to twice it less 1, and as many zeros.
+    def after(self, run, part):
+        """Return how many rows with the sum `part` can stand behind this run."""
+        number, length = run
+        if number == 0:
+            return SETTLED[part]
+        return self.behind(number, length, part)
 
-    The sizes are the powers of 2. The runs are in the order of their sums; of (v, k) and (k, v) one is there.
-    """
-    blocks = []
-    size = 1
-    while size <= total:
-        runs = [(number, added // number)
-                for added in range(size, min(2 * size, total + 1))
-                for number in range(1, isqrt(added) + 1)
-                if added % number == 0]
-        blocks.append((size, runs, [0] * len(runs)))
-        size *= 2
-    return blocks
+    def ways_below(self, number, run, part):
+        """Return how many of them begin with a lower number, or end there."""
+        last, length = run
+        if number > part:
+            return self.after(run, part)
+        # The side with fewer numbers is counted.
+        if number <= part - number + 1:
+            return sum([self.going_on(other, length, part) for other in range(1, number) if other != last])
+        above = sum([self.going_on(other, length, part) for other in range(number, part + 1) if other != last])
+        return self.after(run, part) - above

@@ -118,6 +118,63 @@ def rows_before(total):
     return before
 
 
+def settled_counts(total):
+    """Numbers of settled rows with the sums from 0 to this one, counted run by run.
+
+    Of all; for each sum, by their last number; for each sum, by their last run.
+    """
+    counts = [1] + [0] * total
+    numbers = [[0] * (total + 1) for _ in range(total + 1)]
+    lengths = [[0] * (total + 1) for _ in range(total + 1)]
+    runs = [{} for _ in range(total + 1)]
+    for part in range(1, total + 1):
+        for number in range(1, part + 1):
+            for length in range(1, part // number + 1):
+                rest = part - number * length
+                count = (counts[rest] - numbers[rest][number] - lengths[rest][length]
+                         + runs[rest].get((number, length), 0))
+                runs[part][number, length] = count
+                counts[part] += count
+                numbers[part][number] += count
+                lengths[part][length] += count
+    return counts, numbers, runs
+
+
+def still_counts(total):
+    """The numbers of still rows with the sums from 0 to this one."""
+    ends = [{0: 1}]
+    for part in range(1, total + 1):
+        ends.append({number: sum(count for last, count in ends[part - number ** 2].items() if last != number)
+                     for number in range(1, 15) if number ** 2 <= part})
+    return [sum(by_last.values()) for by_last in ends]
+
+
+def different_counts(total):
+    """In how many ways each sum up to this one can be written as numbers of which no neighbours are equal."""
+    ends = [{0: 1}]
+    for part in range(1, total + 1):
+        ends.append({last: sum(ends[part - last].values()) - ends[part - last].get(last, 0)
+                     for last in range(1, part + 1)})
+    return [sum(by_last.values()) for by_last in ends]
+
+
+def run_counts_of_sums(total):
+    """For each sum up to this one the numbers of rows with 0, 1, 2 and so on runs, counted entry by entry."""
+    none = [0] * (total + 1)
+    found = [[1] + none[1:]]
+    # By the sum and the last number: another entry of this number makes the last run longer.
+    ends = [{}]
+    for part in range(1, total + 1):
+        by_last = {}
+        for last in range(1, part + 1):
+            longer = ends[part - last].get(last, none)
+            other = [count - less for count, less in zip(found[part - last], longer)]
+            by_last[last] = [count + more for count, more in zip([0] + other, longer)]
+        found.append([sum(column) for column in zip(*by_last.values())])
+        ends.append(by_last)
+    return found
+
+
 def picked_numbers(count):
     """Some of the numbers from 0 to count - 1, in ascending order: the first and last ones, and some between."""
     picked = {0, 1, 2, count // 7, count // 3, count // 2, count - count // 5, count - 3, count - 2, count - 1}

@@ -4,10 +4,15 @@ import random
 import unittest
 
 from runswap.before import count_before, entry_range, has_before, nth_before, number_before
+from runswap.counts import DIFFERENT, STILL
 from runswap.errors import InvalidNumber
 from runswap.rows import swapped
-from tests.plain import great_rows, picked_numbers, plain_round, plain_runs, rows_before, rows_up_to
+from tests.plain import (different_counts, great_rows, picked_numbers, plain_round, plain_runs, rows_before, rows_up_to,
+                         still_counts)
 
+VERY_LONG_RUNS = [(2,) * 10 + (1,) * 160 + (2,) * 10, (2,) + (1,) * 190 + (2,) * 3, (1,) * 190 + (2,) * 5,
+                  (5,) + (1,) * 195, (1,) * 150 + (2,) + (1,) * 3 + (2,) * 20,
+                  (2,) * 12 + (1,) * 20 + (2,) * 13 + (1,) * 60 + (7,) * 8]
 LARGE_RUNS = [(1,) * 200, (2,) * 100, (1,) * 100 + (2,) * 50, (1,) * 7 + (2,) * 90 + (1,) * 13, (3,) * 40 + (1,) * 80,
               (14,) * 14, (1, 1, 1, 2, 2, 2) * 22, (5,) * 4 + (4,) * 45]
 
@@ -119,7 +124,7 @@ class BeforeTest(unittest.TestCase):
             self.assertTrue(least <= len(row) <= most)
 
     def test_numbers_and_rows_with_great_sums(self):
-        for row in LARGE_RUNS + [plain_round(row) for row in great_rows()]:
+        for row in LARGE_RUNS + VERY_LONG_RUNS + [plain_round(row) for row in great_rows()]:
             count = count_before(row)
             found = [nth_before(row, number) for number in picked_numbers(count)]
             self.assertEqual([number_before(before) for before in found], picked_numbers(count))
@@ -135,6 +140,10 @@ class BeforeTest(unittest.TestCase):
         for number, length in [(2, 100), (3, 66), (8, 25), (14, 14)]:
             self.assertEqual(count_before((number,) * length), ways_to_sum(length))
 
+    def test_tables(self):
+        self.assertEqual(list(DIFFERENT), different_counts(200))
+        self.assertEqual(list(STILL), still_counts(200))
+
     def test_entry_ranges_of_one_long_run(self):
         # The fewest numbers are the sum alone; the most are 1 and 2 in turn.
         for total in range(1, 201):
@@ -145,6 +154,11 @@ class BeforeTest(unittest.TestCase):
 
     def test_rows_with_long_runs(self):
         for row in rows_with_long_runs():
+            with self.subTest(row=row):
+                self.assertEqual((count_before(row), entry_range(row)), plain_sums(row))
+
+    def test_rows_with_a_very_long_run(self):
+        for row in LARGE_RUNS + VERY_LONG_RUNS:
             with self.subTest(row=row):
                 self.assertEqual((count_before(row), entry_range(row)), plain_sums(row))
 

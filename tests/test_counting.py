@@ -5,7 +5,7 @@ import unittest
 from runswap.counting import count_by_runs, count_rows, nth_row, row_number
 from runswap.errors import InvalidNumber
 from runswap.rows import is_row
-from tests.plain import great_rows, picked_numbers, plain_runs, rows_with_sum
+from tests.plain import great_rows, picked_numbers, plain_runs, rows_with_sum, run_counts_of_sums
 
 
 def counts_by_runs(total):
@@ -88,6 +88,12 @@ class CountByRunsTest(unittest.TestCase):
         for total in [15, 16, 17, 24, 25, 26, 40]:
             counts = counts_by_runs(total) + [0] * 200
             self.assertEqual([count_by_runs(total, runs) for runs in range(1, 201)], counts[1:201])
+
+    def test_all_sums_counted_entry_by_entry(self):
+        for total, counts in enumerate(run_counts_of_sums(200)):
+            if total > 0:
+                counts = counts + [0] * 201
+                self.assertEqual([count_by_runs(total, runs) for runs in range(1, 201)], counts[1:201])
 
     def test_counts_of_great_sums_fit_together(self):
         for total in [99, 100, 143, 144, 199, 200]:

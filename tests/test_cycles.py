@@ -5,39 +5,11 @@ import unittest
 from runswap.cycles import (count_settled, count_still, nth_settled, nth_still, settled_number,
                             still_number)
 from runswap.errors import InvalidNumber, NotSettled, NotStill
+from runswap.settled_ways import SettledWays
 from tests.plain import (great_rows, picked_numbers, plain_runs, plain_settled, plain_still, plain_way, rows_with_sum,
-                         rows_up_to)
+                         rows_up_to, settled_counts, still_counts)
 
 GREAT_SUMS = [15, 16, 17, 31, 32, 33, 63, 64, 65, 100, 127, 128, 129, 150, 191, 192, 193, 198, 199, 200]
-
-
-def settled_counts(total):
-    """The numbers of settled rows with the sums from 0 to this one, counted run by run."""
-    counts = [1] + [0] * total
-    # ends[part]: how many of these rows end with a run, by runs, by its number, by its length.
-    ends = [{} for _ in range(total + 1)]
-    numbers = [[0] * (total + 1) for _ in range(total + 1)]
-    lengths = [[0] * (total + 1) for _ in range(total + 1)]
-    for part in range(1, total + 1):
-        for number in range(1, part + 1):
-            for length in range(1, part // number + 1):
-                rest = part - number * length
-                count = (counts[rest] - numbers[rest][number] - lengths[rest][length]
-                         + ends[rest].get((number, length), 0))
-                ends[part][number, length] = count
-                counts[part] += count
-                numbers[part][number] += count
-                lengths[part][length] += count
-    return counts
-
-
-def still_counts(total):
-    """The numbers of still rows with the sums from 0 to this one, for each last number."""
-    ends = [{0: 1}]
-    for part in range(1, total + 1):
-        ends.append({number: sum(count for last, count in ends[part - number ** 2].items() if last != number)
-                     for number in range(1, 15) if number ** 2 <= part})
-    return [sum(by_last.values()) for by_last in ends]
 
 
 class SettledByNumbersTest(unittest.TestCase):
@@ -49,7 +21,7 @@ class SettledByNumbersTest(unittest.TestCase):
             self.assertEqual([settled_number(row) for row in rows], list(range(len(rows))))
 
     def test_counts_of_all_sums(self):
-        counts = settled_counts(200)
+        counts, _, _ = settled_counts(200)
         for total in range(1, 201):
             self.assertEqual(count_settled(total), counts[total])
 
@@ -91,6 +63,72 @@ class SettledByNumbersTest(unittest.TestCase):
         row = nth_settled(50, 10 ** 6)
         self.assertEqual([type(row), type(settled_number(row)), type(count_settled(50))], [tuple, int, int])
         self.assertEqual({type(entry) for entry in row}, {int})
+
+
+class SettledWaysTest(unittest.TestCase):
+    def setUp(self):
+        # Each settled row read from its end is a settled row, so these count rows that begin so, too.
+        self.counts, self.numbers, self.runs = settled_counts(200)
+
+    def test_rows_that_begin_with_a_number(self):
+        ways = SettledWays(200)
+        for part in range(201):
+            found = [ways.begun(number, part) for number in range(1, 201)]
+            self.assertEqual(found, self.numbers[part][1:])
+
+    def test_rows_behind_a_run(self):
+        for total in [7, 60, 200]:
+            ways = SettledWays(total)
+            for number in range(1, total + 1):
+                for length in range(1, total // number + 1):
+                    found = [ways.behind(number, length, part) for part in range(total - number * length, -3, -1)]
+                    expected = [self.runs[part + number * length][number, length]
+                                for part in range(total - number * length, -1, -1)]
+                    self.assertEqual(found, expected + [0, 0])
+
+    def test_sums_in_any_order(self):
+        ways = SettledWays(200)
+        for part in [3, 150, 20, 199, 0, 64, 63, 16, 15, 17, 47, 48, 49]:
+            for number, length in [(1, 1), (1, 2), (2, 1), (3, 1), (1, 3), (2, 2), (14, 1), (1, 14), (5, 7)]:
+                if part + number * length <= 200:
+                    self.assertEqual(ways.behind(number, length, part),
+                                     self.runs[part + number * length][number, length])
+
+    def test_rows_with_a_lower_entry(self):
+        ways = SettledWays(60)
+        for part in [0, 1, 5, 12, 30, 41]:
+            for run in [(0, 201), (1, 1), (2, 3), (3, 2), (7, 1), (1, 7), (20, 1), (1, 19)]:
+                number, length = run
+                count = sum(self.after(run, entry, part) for entry in range(1, part + 1)) if part else 1
+                self.assertEqual(ways.after(run, part), count)
+                for entry in range(1, part + 1):
+                    lower = sum(self.after(run, other, part) for other in range(1, entry))
+                    self.assertEqual(ways.ways_below(entry, run, part), lower)
+
+    def after(self, run, entry, part):
+        """How many settled rows with this sum begin with the entry and can stand behind the run."""
+        number, length = run
+        if entry == number:
+            return 0
+        return self.numbers[part][entry] - self.runs[part].get((entry, length), 0)
+
+    def test_long_runs_of_one_number(self):
+        for total in [40, 81, 200]:
+            for entry in [1, 2, 3]:
+                for length in range(1, (total - 3) // entry + 1):
+                    rest = total - entry * length
+                    for row in [(entry,) * length + (rest,), (rest,) + (entry,) * length,
+                                (rest - 2,) + (entry,) * length + (2,)]:
+                        if plain_settled(row):
+                            self.assertEqual(nth_settled(total, settled_number(row)), row)
+
+    def test_great_entries(self):
+        for total in [29, 30, 60, 121, 200]:
+            for entry in range(10, total):
+                rest = total - entry
+                for row in [(entry, 1) + (2,) * (rest // 2) + (3,), (entry, entry, rest), (rest, rest, entry, 2, 2, 2)]:
+                    if plain_settled(row) and sum(row) <= 200:
+                        self.assertEqual(nth_settled(sum(row), settled_number(row)), row)
 
 
 class StillByNumbersTest(unittest.TestCase):

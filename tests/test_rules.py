@@ -7,8 +7,8 @@ import unittest
 
 PACKAGE = pathlib.Path(__file__).resolve().parent.parent / "runswap"
 BUILTINS = {"len", "range", "enumerate", "zip", "min", "max", "sum", "abs", "sorted", "reversed", "int", "str", "bool",
-            "list", "tuple", "dict", "set", "isinstance", "ord", "repr", "any", "all", "divmod", "map", "type", "property",
-            "classmethod", "staticmethod", "super", "ValueError", "KeyError", "IndexError"}
+            "list", "tuple", "dict", "set", "isinstance", "ord", "repr", "any", "all", "divmod", "map", "type",
+            "property", "classmethod", "staticmethod", "super", "ValueError", "KeyError", "IndexError"}
 DOUBLE = {"__init__", "__eq__", "__len__"}
 METHODS = {"append", "clear", "copy", "count", "endswith", "extend", "find", "get", "index", "insert", "isalnum",
            "isalpha", "isdigit", "islower", "isspace", "isupper", "items", "join", "keys", "ljust", "lower", "lstrip",

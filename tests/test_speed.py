@@ -97,19 +97,26 @@ class WorkTest(unittest.TestCase):
         settled = nth_settled(200, 2 ** 150)
         self.check(2500, [lambda: joined_runs((1, 2) * 66), lambda: most_rounds(200), lambda: slowest_row(200),
                           lambda: count_rows(200), lambda: nth_row(200, 2 ** 198), lambda: row_number(ones),
-                          lambda: has_before(ones), lambda: number_before(row)])
-        self.check(18000, [lambda: count_before(ones), lambda: nth_before(ones, 10 ** 40), lambda: entry_range(ones),
-                           lambda: count_still(200), lambda: nth_still(200, 10 ** 15),
-                           lambda: still_number((14,) * 14 + (2, 2))])
-        self.check(25000, [lambda: count_by_runs(200, 66), lambda: count_by_runs(200, 133)])
-        self.check(60000, [lambda: count_settled(200), lambda: nth_settled(200, 2 ** 150),
-                           lambda: settled_number(settled)])
+                          lambda: has_before(ones), lambda: number_before(row), lambda: count_before(ones),
+                          lambda: entry_range(ones), lambda: nth_still(200, 10 ** 15),
+                          lambda: still_number((14,) * 14 + (2, 2))])
+        self.check(12000, [lambda: nth_before(ones, 10 ** 20), lambda: nth_before(ones, count_before(ones) - 1),
+                           lambda: nth_before((1,) * 100 + (2,) * 50, 10 ** 15), lambda: number_before((1, 2) * 66),
+                           lambda: count_before((2,) * 10 + (1,) * 160 + (2,) * 10)])
+        self.check(12000, [lambda: nth_settled(200, 2 ** 150), lambda: nth_settled(200, count_settled(200) - 1),
+                           lambda: nth_settled(200, 0), lambda: settled_number(settled),
+                           lambda: settled_number((2,) * 100), lambda: settled_number(ones)])
+
+    def test_numbers_that_stand_in_tables(self):
+        self.check(20, [lambda: count_settled(200), lambda: count_still(200)])
+        self.check(200, [lambda: count_by_runs(200, 66), lambda: count_by_runs(200, 133),
+                         lambda: count_by_runs(80, 40)])
 
     def test_calls_with_small_sums(self):
-        self.check(2000, [lambda: count_settled(13), lambda: nth_settled(13, 200), lambda: settled_number((13,)),
-                          lambda: settled_number((2, 1, 1, 9)), lambda: count_by_runs(13, 5),
-                          lambda: nth_before((1,) * 13, 100), lambda: number_before((1, 2, 1, 2, 3, 4)),
-                          lambda: entry_range((1,) * 13), lambda: nth_still(13, 1), lambda: row_number((1,) * 13)])
+        self.check(500, [lambda: count_settled(13), lambda: nth_settled(13, 200), lambda: settled_number((13,)),
+                         lambda: settled_number((2, 1, 1, 9)), lambda: count_by_runs(13, 5),
+                         lambda: nth_before((1,) * 13, 100), lambda: number_before((1, 2, 1, 2, 3, 4)),
+                         lambda: entry_range((1,) * 13), lambda: nth_still(13, 1), lambda: row_number((1,) * 13)])
 
     def test_wrong_numbers_are_refused_before_settled_rows_are_counted(self):
         def wrong():
