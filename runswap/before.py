@@ -182,10 +182,10 @@ def _fewest(copies, length, behind):
 def _most(copies, length, behind):
     """Return the same for the most entries.
 
-    The most numbers are 1 and 2 in turn, where one number may be greater by 1. If the rest of length // 3 is 1, they
-    are 1 2 1 .. 2 1 alone; if it is 0, they begin with one of 1 and 2 and end with the other; if it is 2, they begin
-    and end with 1, or begin and end with 2. With one number less (or two, in the first case), they can begin with
-    any other number and end with any number but the one that follows.
+    The most numbers that add up to the length are 1 and 2 in turn; one of them may be greater by 1. If the length is
+    a multiple of 3, they begin with one of 1 and 2 and end with the other. If it is greater by 1, they begin and end
+    with 1; if it is greater by 2, they begin and end with 1, or begin and end with 2. With one number less, they can
+    begin with any other number, or end with another one than the number that follows; with two less, both.
     """
     best, first, other = behind
     if length <= 2:
@@ -195,8 +195,8 @@ def _most(copies, length, behind):
         return (most + best, 1, most - copies + best)
     if length % 3 == 1:
         return (max(most + other, most - copies + best), 1, max(most - copies + other, most - 2 * copies + best))
-    if first > 2 or first == 0:
-        return (most + best, 1, most + best)
-    # One way begins with this number and ends with the number that does not follow.
+    if first == 0:
+        return (most, 1, most)
+    # One way begins with this number and ends with the number that does not follow, which is 1 or 2, too.
     begin = first if length % 3 == 0 else 3 - first
     return (most + best, begin, max(most + other, most - copies + best))

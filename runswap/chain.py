@@ -52,19 +52,17 @@ class Chain:
 
     def _join(self, run):
         """Join the runs around this one that have its length to the first of them; return that, or 0 if none has."""
-        numbers = self._numbers
         lengths = self._lengths
         length = lengths[run]
         first = run
         while lengths[self._ahead[first]] == length:
             first = self._ahead[first]
         after = self._behind[first]
-        # This round may have joined the run to another one already: then it has the number 0 and its old neighbours.
-        if numbers[run] == 0 or lengths[after] != length:
+        # If this round has joined the run already, the first one of them has no such run behind it any more.
+        if lengths[after] != length:
             return 0
         while lengths[after] == length:
-            numbers[first] += numbers[after]
-            numbers[after] = 0
+            self._numbers[first] += self._numbers[after]
             after = self._behind[after]
         self._behind[first] = after
         self._ahead[after] = first

@@ -1,5 +1,4 @@
-"""More numbers of settled rows, as in settled_counts.py: of those that begin with the number 7, or 8 and so on.
-"""
+"""More numbers of settled rows, as in settled_counts.py: of those that begin with the number 7, or 8 and so on."""
 
 BEGUN_7 = (
     0, 0, 0, 0, 0, 0, 0, 1, 0, 1, 1, 3, 4, 7, 14, 23, 37, 67, 115, 196, 342, 590, 1016, 1752, 3023, 5234, 9008, 15547,

@@ -6,7 +6,8 @@ from runswap.settled_counts_more import BEGUN_7, BEGUN_8, BEGUN_9, BEGUN_10, BEG
 # There are tables for rows that begin with a number up to this one.
 MOST_TABLE = 13
 
-# For greater numbers: which tables are counted n times the number further on, and how often; n from 1 on.
+# For greater numbers v: item n - 1 tells which tables are counted for the sum that is n * v less, and how often.
+# The last one is asked for sums up to 4 only: behind 14 times the number 14.
 SHARES = (
     ((0, 1), (1, -1)),
     ((0, 1), (2, -1)),
@@ -21,15 +22,15 @@ SHARES = (
     ((0, 2), (1, -2), (2, 1), (3, -1), (4, -2), (5, 3), (6, -1), (8, -1), (9, 1), (10, 1), (11, -1)),
     ((0, 2), (2, -3), (3, 3), (4, -2), (6, 1), (7, -1), (9, -1), (10, 1), (11, 1), (12, -1)),
     ((0, -3), (1, 2), (2, 3), (3, -4), (4, 3), (5, -2), (7, 2), (8, -1), (10, -1), (11, 1), (12, 1), (13, -1)),
-    ((1, -1), (2, -1), (3, 1), (4, -1), (5, 3), (7, -2), (8, 2), (9, -1), (11, -1), (12, 1), (13, 1)),
+    ((1, -1), (2, -1), (3, 1), (4, -1)),
 )
 # A sum over steps of one size is kept for all sums if the steps are so small and so many.
 SMALL_STEP = 3
 MANY_STEPS = 16
-# No run: its number is no entry, and no run has its length.
-NO_RUN = (0, 201)
 # With fewer steps, adding one by one takes less time than slices.
 SOME_STEPS = 5
+# No run: its number is no entry, and no run has its length.
+NO_RUN = (0, 201)
 
 
 class SettledWays:
@@ -51,8 +52,8 @@ class SettledWays:
 
         Behind a run (v, k) stands a row that begins neither with v nor with a run of the length k. So the rows that
         begin with v are, for all k and j from 1 on, those with the sum part - j * k * v, less those of them that
-        begin with v, less those that begin with k. Put for the rows that begin with v the same again, and so on: what
-        is left are shares of tables for the sums part - n * v, which depend on n alone.
+        begin with v, less those of them that begin with k. Put the same in place of the rows that begin with v, and
+        so on: what is left are tables for the sums part - n * v, each counted so often as n alone tells.
         """
         if number <= MOST_TABLE:
             return self._tables[number][part]
@@ -114,10 +115,8 @@ class SettledWays:
         return self.behind(number, length, part)
 
     def ways_below(self, number, run, part):
-        """Return how many of them begin with a lower number, or end there."""
+        """Return how many of them begin with a number lower than this, which is no greater than the sum."""
         last, length = run
-        if number > part:
-            return self.after(run, part)
         # The side with fewer numbers is counted.
         if number <= part - number + 1:
             return sum([self.going_on(other, length, part) for other in range(1, number) if other != last])

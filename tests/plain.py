@@ -150,12 +150,12 @@ def still_counts(total):
 
 
 def different_counts(total):
-    """In how many ways each sum up to this one can be written as numbers of which no neighbours are equal."""
+    """In how many ways each sum up to this one can be written as numbers of which no neighbours are equal, by the last."""
     ends = [{0: 1}]
     for part in range(1, total + 1):
         ends.append({last: sum(ends[part - last].values()) - ends[part - last].get(last, 0)
                      for last in range(1, part + 1)})
-    return [sum(by_last.values()) for by_last in ends]
+    return ends
 
 
 def run_counts_of_sums(total):

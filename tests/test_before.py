@@ -4,11 +4,9 @@ import random
 import unittest
 
 from runswap.before import count_before, entry_range, has_before, nth_before, number_before
-from runswap.counts import DIFFERENT, STILL
 from runswap.errors import InvalidNumber
 from runswap.rows import swapped
-from tests.plain import (different_counts, great_rows, picked_numbers, plain_round, plain_runs, rows_before, rows_up_to,
-                         still_counts)
+from tests.plain import great_rows, picked_numbers, plain_round, plain_runs, rows_before, rows_up_to
 
 VERY_LONG_RUNS = [(2,) * 10 + (1,) * 160 + (2,) * 10, (2,) + (1,) * 190 + (2,) * 3, (1,) * 190 + (2,) * 5,
                   (5,) + (1,) * 195, (1,) * 150 + (2,) + (1,) * 3 + (2,) * 20,
@@ -139,10 +137,6 @@ class BeforeTest(unittest.TestCase):
             self.assertEqual(count_before((1,) * total), ways_to_sum(total))
         for number, length in [(2, 100), (3, 66), (8, 25), (14, 14)]:
             self.assertEqual(count_before((number,) * length), ways_to_sum(length))
-
-    def test_tables(self):
-        self.assertEqual(list(DIFFERENT), different_counts(200))
-        self.assertEqual(list(STILL), still_counts(200))
 
     def test_entry_ranges_of_one_long_run(self):
         # The fewest numbers are the sum alone; the most are 1 and 2 in turn.

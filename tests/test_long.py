@@ -5,6 +5,7 @@ import itertools
 import random
 import unittest
 
+from runswap.chain import Chain
 from runswap.errors import InvalidBlocks, InvalidEntry, InvalidIndex, InvalidPlace, InvalidRounds
 from runswap.long import is_blocks, long_after, long_count, long_entry, long_find, long_needed
 from runswap.rows import row_after, runs_of
@@ -50,6 +51,16 @@ def great_blocks():
     alike = [((MANY, MANY),) * 200, tuple((1 + place % 2, MANY) for place in range(200)),
              tuple((MANY, 1 + place) for place in range(200)), tuple((MANY - place, 1 + place) for place in range(200))]
     return some + alike + [slow_blocks(root, scale) for root in (5, 30, 101) for scale in (1, 10 ** 25)]
+
+
+def chance_runs():
+    """Runs with numbers and lengths so small that many rounds join some of them."""
+    chance = random.Random(13)
+    found = []
+    for _ in range(1500):
+        blocks = [(chance.randint(1, 4), chance.randint(1, 4)) for _ in range(chance.randint(1, 30))]
+        found.append(plain_joined(blocks))
+    return found
 
 
 def slow_blocks(root, scale):
@@ -98,6 +109,17 @@ class BlocksTest(unittest.TestCase):
                 for block in [(MANY, 1), (1, MANY), (MANY, MANY)]:
                     blocks = ((3, 2),) * place + (block,) + ((1, 4),) * (size - place - 1)
                     self.assertIs(is_blocks(blocks), True)
+
+    def test_subclasses_of_integers_and_tuples(self):
+        class Number(int):
+            pass
+
+        class Pair(tuple):
+            pass
+
+        self.assertIs(is_blocks(Pair([Pair([Number(3), Number(MANY)])])), True)
+        self.assertIs(is_blocks(((Number(0), 1),)), False)
+        self.assertIs(is_blocks(((1, Number(MANY + 1)),)), False)
 
     def test_empty_and_too_many(self):
         self.assertEqual([is_blocks(((2, 3),) * size) for size in [0, 1, 2, 199, 200, 201, 300]],
@@ -155,6 +177,21 @@ class SmallTest(unittest.TestCase):
             self.assertEqual(long_needed(blocks), rounds_needed(row))
             for rounds in [0, 1, 2, 3, 7, 24, 25, 200, ALWAYS - 1, ALWAYS]:
                 self.assertEqual(list(long_after(blocks, rounds=rounds)), runs_of(row_after(row, rounds=rounds)))
+
+
+class ChainTest(unittest.TestCase):
+    def test_round_by_round(self):
+        for runs in chance_runs() + [plain_joined(blocks) for blocks in great_blocks()]:
+            chain = Chain(runs)
+            found = runs
+            while found != plain_turned(plain_turned(found)):
+                self.assertIs(chain.play(), True)
+                found = plain_turned(found)
+                self.assertEqual(chain.runs_now(), found)
+            # Nothing is played on settled runs.
+            for _ in range(2):
+                self.assertIs(chain.play(), False)
+                self.assertEqual(chain.runs_now(), found)
 
 
 class GreatTest(unittest.TestCase):
