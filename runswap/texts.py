@@ -1,11 +1,10 @@
 """The texts of rows and of runs."""
 
-from runswap.checks import MOST_SUM
 from runswap.errors import InvalidText
 from runswap.rows import check_row, check_runs, is_row, is_runs
 
-# An entry takes at most two signs for each 1 of the sum, a run at most four: no text of a row or of runs is longer.
-MOST_SIGNS = 4 * MOST_SUM
+# For each 1 of the sum an entry takes at most two signs, a run at most four: no text of a row or of runs is longer.
+MOST_SIGNS = 800
 
 
 def show_row(row):
